@@ -1,0 +1,1 @@
+"""Liftedties: ties handed over, and what no handing over changes."""
