@@ -1,11 +1,14 @@
 """Webs and values that several tests need. Nothing here imports the functions under test."""
 
-from itertools import combinations
+from itertools import combinations, permutations
 
 from liftedties.errors import Apart, BadText, BadWeb, Unfit
 
 PATH = (4, ((0, 1), (1, 2), (2, 3)))
 WING = (5, ((0, 1), (0, 2), (1, 2), (2, 3), (2, 4)))
+NET = (5, ((0, 1), (0, 2), (3, 4)))
+LOW, HIGH = (4, ((0, 1), (0, 2), (1, 2))), (4, ((0, 1), (0, 3), (1, 3)))
+LEFT, RIGHT = (6, ((0, 1), (0, 2), (1, 2))), (6, ((3, 4), (3, 5), (4, 5)))
 FAR = 10 ** 399
 
 
@@ -33,6 +36,40 @@ def full_web(many):
 def striped_web(many, step):
     """A web with an irregular lot of ties, another one for each step."""
     return (many, tuple(pair for pair in pairs(many) if (pair[0] * 7 + pair[1] * 5 + pair[0] * pair[1]) % step < 2))
+
+
+def tied_in(web, place, mate):
+    return (place, mate) in web[1] or (mate, place) in web[1]
+
+
+def told_apart(web, place, one, other):
+    """What [B1] says: another place than both, tied to just one of them."""
+    return place not in (one, other) and tied_in(web, place, one) + tied_in(web, place, other) == 1
+
+
+def deeds_of(web):
+    """All quadruples that are deeds of the web by [B1], ascending."""
+    return [
+        (a, d, b, c) for a, d, b, c in permutations(range(web[0]), 4)
+        if told_apart(web, b, a, d) and told_apart(web, c, a, d)
+    ]
+
+
+def lifts_of(web):
+    """Those of them in which both places that change sides were tied to the same one."""
+    return [(a, d, b, c) for a, d, b, c in deeds_of(web) if tied_in(web, a, b) == tied_in(web, a, c)]
+
+
+def behind(web, deed):
+    """The web behind a deed: of its two places b and c each changes from a to d, or from d to a."""
+    a, d, b, c = deed
+    turned = {tuple(sorted(pair)) for pair in ((a, b), (a, c), (d, b), (d, c))}
+    return (web[0], tuple(sorted(set(web[1]) ^ turned)))
+
+
+def renamed(web, names):
+    """The web with its places called otherwise."""
+    return (web[0], tuple(sorted(tuple(sorted((names[one], names[other]))) for one, other in web[1])))
 
 
 def nested(depth, wrap):

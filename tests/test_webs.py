@@ -97,7 +97,7 @@ class WebError(unittest.TestCase):
             self.assertEqual(web_error((many, ((many - 1, many - 1),))), ("tie", 0))
         self.assertEqual(web_error((1, ((0, 0),))), ("tie", 0))
         self.assertEqual(web_error((1, ((0, 1),))), ("tie", 0))
-        self.assertEqual(web_error((12, full_web(12)[1] * 60)), ("order", 66))
+        self.assertEqual(web_error((12, full_web(12)[1] * 15)), ("order", 66))
 
     def test_what_is_handed_in_is_not_changed(self):
         for value in [[4, [(0, 1)]], (4, ([0, 1],)), (4, ((1, 2), {0: [1]})), {"a": [1, (2, [3])]}]:
