@@ -1,6 +1,6 @@
 """What keeps two webs apart, and where they differ ([C1], [C2])."""
 
-from liftedties.errors import Unfit
+from liftedties.errors import Apart, Unfit
 from liftedties.webs import odd_places
 
 
@@ -19,6 +19,13 @@ def parting(one, other):
     if len(unlike) > 0:
         return ("odd", unlike[0])
     return None
+
+
+def check_joined(one, other):
+    """Unfit() or Apart(paper) unless the webs are joined."""
+    paper = parting(one, other)
+    if paper is not None:
+        raise Apart(paper)
 
 
 def difference(one, other):

@@ -67,6 +67,83 @@ def behind(web, deed):
     return (web[0], tuple(sorted(set(web[1]) ^ turned)))
 
 
+def is_deed(web, deed):
+    """Whether this is a quadruple of unlike places of which the last two tell the first two apart."""
+    if type(deed) is not tuple or [type(item) for item in deed] != [int] * 4 or len(set(deed)) < 4:
+        return False
+    a, d, b, c = deed
+    return all(0 <= item < web[0] for item in deed) and told_apart(web, b, a, d) and told_apart(web, c, a, d)
+
+
+def is_lift_of(web, deed):
+    """Whether it is a deed by which both places that change sides leave the same one."""
+    return is_deed(web, deed) and tied_in(web, deed[0], deed[2]) == tied_in(web, deed[0], deed[3])
+
+
+def has_lift(web):
+    """Whether some place has two neighbours that another place, none of them, does not have."""
+    near = [{other for other in range(web[0]) if tied_in(web, place, other)} for place in range(web[0])]
+    return any(len(near[a] - near[d] - {d}) > 1 for a, d in permutations(range(web[0]), 2))
+
+
+def led_by(web, row, lets=is_deed):
+    """The web behind a tuple of deeds, each of them let in the web ahead of it; None if it is no such tuple."""
+    if type(row) is not tuple:
+        return None
+    for deed in row:
+        if not lets(web, deed):
+            return None
+        web = behind(web, deed)
+    return web
+
+
+def apart(one, other):
+    """How many red and blue ties there are."""
+    return len(set(one[1]) ^ set(other[1]))
+
+
+def wandered(web, turns):
+    """The web behind so many deeds, an irregular lot of them; the web must have a deed."""
+    quadruples = list(permutations(range(web[0]), 4))
+    for turn in range(turns):
+        at = turn * 7919 % len(quadruples)
+        web = behind(web, next(deed for deed in quadruples[at:] + quadruples[:at] if is_deed(web, deed)))
+    return web
+
+
+def odd_in(web):
+    """The odd places of the web, ascending."""
+    return tuple(place for place in range(web[0]) if sum(place in tie for tie in web[1]) % 2)
+
+
+def by_kinds(webs):
+    """Lists of the webs with as many places and ties and the same odd places, by these."""
+    kinds = {}
+    for web in webs:
+        kinds.setdefault((web[0], len(web[1]), odd_in(web)), []).append(web)
+    return kinds
+
+
+def joined_pairs(webs):
+    """All pairs of these webs that are joined."""
+    return [(one, other) for lot in by_kinds(webs).values() for one in lot for other in lot]
+
+
+def ring(places):
+    """The ties of a ring of these places, in this order."""
+    return tuple(sorted(tuple(sorted((places[at - 1], places[at]))) for at in range(len(places))))
+
+
+def web_with(many, *lots):
+    """The web of so many places with the ties of all these lots."""
+    return (many, tuple(sorted({tie for lot in lots for tie in lot})))
+
+
+def opposed(web):
+    """The opposite of the web."""
+    return (web[0], tuple(pair for pair in pairs(web[0]) if pair not in web[1]))
+
+
 def renamed(web, names):
     """The web with its places called otherwise."""
     return (web[0], tuple(sorted(tuple(sorted((names[one], names[other]))) for one, other in web[1])))

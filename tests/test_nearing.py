@@ -9,16 +9,12 @@ from liftedties.errors import TiesError, Unfit
 from liftedties.joining import difference, parting, pieces
 from liftedties.nearing import nearer
 from tests.samples import (
-    HIGH, LEFT, LOW, PATH, RIGHT, WING, all_webs, behind, deeds_of, empty_web, full_web, striped_web,
+    HIGH, LEFT, LOW, PATH, RIGHT, WING, all_webs, apart, behind, deeds_of, empty_web, full_web, joined_pairs,
+    striped_web,
 )
 
 RING = (5, ((0, 1), (0, 4), (1, 2), (2, 3), (3, 4)))
 STAR = (5, ((0, 2), (0, 3), (1, 3), (1, 4), (2, 4)))
-
-
-def apart(one, other):
-    """How many red and blue ties there are."""
-    return len(set(one[1]) ^ set(other[1]))
 
 
 def can_come_nearer(one, other, steps):
@@ -124,16 +120,9 @@ class Nearer(unittest.TestCase):
 class WhatHolds(unittest.TestCase):
 
     def test_pieces_of_joined_webs_without_a_nearer_one(self):
-        webs = all_webs(5) + [LEFT, RIGHT]
-        kinds = {}
-        for web in webs:
-            odd = tuple(sum(place in tie for tie in web[1]) % 2 for place in range(web[0]))
-            kinds.setdefault((web[0], len(web[1]), odd), []).append(web)
-        for joined in kinds.values():
-            for one in joined:
-                for other in joined:
-                    if nearer(one, other) is None:
-                        self.check_pieces(one, other)
+        for one, other in joined_pairs(all_webs(5) + [LEFT, RIGHT]):
+            if nearer(one, other) is None:
+                self.check_pieces(one, other)
 
     def check_pieces(self, one, other):
         self.assertIsNone(parting(one, other))
