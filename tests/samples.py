@@ -1,6 +1,7 @@
 """Webs and values that several tests need. Nothing here imports the functions under test."""
 
 from itertools import combinations, permutations
+from math import comb
 
 from liftedties.errors import Apart, BadText, BadWeb, Unfit
 
@@ -122,6 +123,52 @@ def by_kinds(webs):
     for web in webs:
         kinds.setdefault((web[0], len(web[1]), odd_in(web)), []).append(web)
     return kinds
+
+
+def all_odd(many):
+    """All ascending tuples of so many places."""
+    return [odd for number in range(many + 1) for odd in combinations(range(many), number)]
+
+
+def all_kinds(many):
+    """All kinds of so many places, with the list of their webs; many is small."""
+    webs = by_kinds(all_webs(many))
+    return {
+        (many, count, odd): webs.get((many, count, odd), [])
+        for count in range(len(pairs(many)) + 1) for odd in all_odd(many)
+    }
+
+
+def kinds_by_numbers(many):
+    """A kind of so many places for each count and each number of odd places, some here and some there."""
+    told = []
+    for count in range(len(pairs(many)) + 1):
+        for number in range(many + 1):
+            places = [(place * 5 + count) % many if many % 5 else (place * 3 + count) % many for place in range(number)]
+            told.append((many, count, tuple(sorted(places))))
+    return told
+
+
+def row_in(web):
+    """The row of the web."""
+    return tuple(int(pair in web[1]) for pair in pairs(web[0]))
+
+
+def plain_size(many, count, odd):
+    """How many webs have so many places, ties and odd places, by signs in the place of parities.
+
+    Over all lots of places, the product of the signs that a web gives them, -1 for each tie with
+    one end in the lot, is as often 1 as the parities ask, and cancels out otherwise.
+    """
+    total = 0
+    for lot in range(many + 1):
+        crossing = lot * (many - lot)
+        inner = len(pairs(many)) - crossing
+        signs = sum((-1) ** some * comb(odd, some) * comb(many - odd, lot - some) for some in range(lot + 1))
+        webs = sum((-1) ** some * comb(crossing, some) * comb(inner, count - some) for some in range(count + 1))
+        total += signs * webs
+    assert total % 2 ** many == 0
+    return total // 2 ** many
 
 
 def joined_pairs(webs):
