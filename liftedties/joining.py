@@ -10,15 +10,18 @@ def check_fit(one, other):
         raise Unfit()
 
 
+def odd_paper(odd_here, odd_there):
+    """None if both tuples of odd places are one, otherwise ("odd", place) with the least place of just one."""
+    unlike = sorted(set(odd_here) ^ set(odd_there))
+    return ("odd", unlike[0]) if len(unlike) > 0 else None
+
+
 def parting(one, other):
     """None if the webs are joined, otherwise what keeps them apart."""
     check_fit(one, other)
     if len(one[1]) != len(other[1]):
         return "ties"
-    unlike = sorted(set(odd_places(one)) ^ set(odd_places(other)))
-    if len(unlike) > 0:
-        return ("odd", unlike[0])
-    return None
+    return odd_paper(odd_places(one), odd_places(other))
 
 
 def check_joined(one, other):

@@ -3,6 +3,7 @@
 from liftedties.deeds import all_lifts, deed_error, done, is_lift, tellers
 from liftedties.errors import NoLifts
 from liftedties.joining import check_joined, parting
+from liftedties.leading import shortest_rows
 from liftedties.lonely import is_lonely
 from liftedties.rowsbetween import row_between
 
@@ -53,7 +54,8 @@ def by_few_places(web, deed):
         part = part_of(web, places)
         if not is_lonely(part):
             # The part calls each place by where it stands among them; those of the deed come first.
-            row = shortest_lifts(part, done(part, ((0, 1, 2, 3),)))
+            goal = done(part, ((0, 1, 2, 3),))
+            row = shortest_rows(part, goal, all_lifts)[goal]
             return tuple([tuple([places[at] for at in lift]) for lift in row])
     return None
 
@@ -63,22 +65,6 @@ def part_of(web, places):
     called = {place: at for at, place in enumerate(places)}
     ends = [(called[one], called[other]) for one, other in web[1] if one in called and other in called]
     return (len(places), tuple(sorted([(min(tie), max(tie)) for tie in ends])))
-
-
-def shortest_lifts(start, goal):
-    """The shortest row of lifts between joined webs of few places that are not lonely."""
-    rows = {start: ()}
-    newest = [start]
-    while goal not in rows:
-        reached = []
-        for web in newest:
-            for lift in all_lifts(web):
-                there = done(web, (lift,))
-                if there not in rows:
-                    rows[there] = (*rows[web], lift)
-                    reached.append(there)
-        newest = reached
-    return rows[goal]
 
 
 def by_places_beyond(web, deed):

@@ -3,6 +3,7 @@
 from liftedties.deeds import done
 from liftedties.errors import Barred
 from liftedties.joining import check_fit, check_joined, difference, pieces
+from liftedties.leading import row_from_both
 from liftedties.nearing import nearer
 from liftedties.tables import table_of, tells_apart
 from liftedties.webs import numbers
@@ -17,14 +18,7 @@ def many_apart(one, other):
 def row_between(one, other):
     """Any tuple of deeds that leads from one to other, at most two for each red or blue tie."""
     check_joined(one, other)
-    webs, rows = [one, other], [[], []]
-    while webs[0] != webs[1]:
-        steps = next_deeds(webs[0], webs[1])
-        for side, deed in steps:
-            webs[side] = done(webs[side], (deed,))
-            rows[side].append(deed)
-    # The deeds of other lead to where both webs met; backwards they lead on from there.
-    return tuple(rows[0] + rows[1][::-1])
+    return row_from_both((one, other), next_deeds, done)
 
 
 def next_deeds(one, other):

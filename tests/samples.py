@@ -1,9 +1,10 @@
-"""Webs and values that several tests need. Nothing here imports the functions under test."""
+"""Webs and values that several tests need. Nothing here calls the functions under test."""
 
 from itertools import combinations, permutations
 from math import comb
 
-from liftedties.errors import Apart, BadText, BadWeb, Unfit
+from liftedties.benches import Bench
+from liftedties.errors import Apart, BadLog, BadText, BadWeb, NoName, Unfit
 
 PATH = (4, ((0, 1), (1, 2), (2, 3)))
 WING = (5, ((0, 1), (0, 2), (1, 2), (2, 3), (2, 4)))
@@ -101,6 +102,16 @@ def led_by(web, row, lets=is_deed):
 def apart(one, other):
     """How many red and blue ties there are."""
     return len(set(one[1]) ^ set(other[1]))
+
+
+def waves_from(start, steps):
+    """How many steps it is to each web to which the steps lead, the web itself with 0."""
+    far, newest, wave = {start: 0}, {start}, 0
+    while newest:
+        wave += 1
+        newest = {there for web in newest for there in steps[web]} - far.keys()
+        far.update(dict.fromkeys(newest, wave))
+    return far
 
 
 def wandered(web, turns):
@@ -204,7 +215,7 @@ def nested(depth, wrap):
 
 
 def any_values():
-    """Values of all kinds that may be handed in as any value; none is a web, a deed or a text."""
+    """Values of all kinds that may be handed in as any value; none is a web, a deed, a board or a web's text."""
     return [
         None, True, False, 0, 1, -1, 12, FAR, -FAR,
         "", "form", "0", "a line\nand another\n", "~ !\"#$%&'()*+,-./", "x" * 20000, "\n" * 20000,
@@ -215,5 +226,7 @@ def any_values():
         nested(20, lambda value: {"in": value}), nested(20, lambda value: (value, value) if value == 7 else (value,)),
         (4, [(0, 1)]), (4, {}), (4, None), ("4", ()), (None, ()), (0, ()), (4, (), ()), ((4, ()),),
         ((0, 1), (1, 2)), (FAR, ()), (-FAR, ()), (0,) * 4000, ("form", ("tie", 0)),
-        Unfit(), BadText(), BadWeb(("tie", 1)), Apart(paper=("odd", 0)),
+        Unfit(), BadText(), BadWeb(("tie", 1)), Apart(paper=("odd", 0)), NoName([0]), BadLog(place=3),
+        Bench(), [Bench()], ((0, 1), (1,)), ((0, True), (1, 0)), [(0, 1), (1, 0)], ([0, 1], [1, 0]), ((),) * 3,
+        ((0,) * 13,), ((0,),) * 13, ("keep", "p"), ("batch", ()), (("drop", "p"),), "(drop,p)", "p q", "Path", "p\n",
     ]

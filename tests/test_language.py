@@ -83,7 +83,8 @@ class Language(unittest.TestCase):
                     self.assertIn(node.id, BUILTINS, path)
 
     def test_what_does_not_stand_anywhere(self):
-        barred = (ast.AsyncFunctionDef, ast.AsyncFor, ast.AsyncWith, ast.Await, ast.Div)
+        # A generator expression is let in few places beside a class with __eq__; a list will do in each of them.
+        barred = (ast.AsyncFunctionDef, ast.AsyncFor, ast.AsyncWith, ast.Await, ast.Div, ast.GeneratorExp)
         for path, tree in trees():
             for node in ast.walk(tree):
                 self.assertNotIsInstance(node, barred, path)
@@ -93,6 +94,20 @@ class Language(unittest.TestCase):
                     self.assertIsInstance(node.exc, (ast.Call, type(None)), path)
                 if isinstance(node, ast.ExceptHandler):
                     self.assertIsNotNone(node.type, path)
+
+
+    def test_words_that_do_not_stand_beside_an_index_of_a_class(self):
+        for path in FILES:
+            text = path.read_text(encoding="utf-8")
+            for word in ("(" + "type)", "Meta", "metaclass="):
+                self.assertNotIn(word, text, path)
+
+    def test_double_underscore_methods(self):
+        let = ("__init__", "__eq__", "__getitem__", "__iter__")
+        for path, tree in trees():
+            for node in ast.walk(tree):
+                if isinstance(node, ast.FunctionDef) and node.name.startswith("__"):
+                    self.assertIn(node.name, let, path)
 
 
 def bound_in(path):
